@@ -23,6 +23,9 @@ func SpanMul(a, b api.Span) (api.Span, error) {
 // In: is a number in a span?
 func In(x int, s api.Span) bool { return s.Lo <= x && x <= s.Hi }
 
+// IsFrom: In, of a span that has no name.
+func IsFrom(x, lo, hi int) bool { return In(x, api.Span{Lo: lo, Hi: hi}) }
+
 // both spans make what reckon makes of their numbers.
 func both(a, b api.Span, reckon func(x, y int) int) (api.Span, error) {
 	checks := [2]func() error{

@@ -120,7 +120,7 @@ func TestSpansWide(t *testing.T) {
 	}
 }
 
-// A3: In, of any span: one that may not be has its numbers, too.
+// A3: In, of any span: one that may not be has its numbers, too. IsFrom is the same of both ends.
 func TestIn(t *testing.T) {
 	for _, c := range []struct {
 		x    int
@@ -137,6 +137,9 @@ func TestIn(t *testing.T) {
 	} {
 		if got := fix.In(c.x, c.s); got != c.want {
 			t.Errorf("In(%d, %v): %v, want %v", c.x, c.s, got, c.want)
+		}
+		if got := fix.IsFrom(c.x, c.s.Lo, c.s.Hi); got != c.want {
+			t.Errorf("IsFrom(%d, %v): %v, want %v", c.x, c.s, got, c.want)
 		}
 	}
 }
