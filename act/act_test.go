@@ -327,3 +327,17 @@ func compareWatch(t *testing.T, r act.Rule, s act.Servo) {
 }
 
 func distance(a, b int) int { return max(a-b, b-a) }
+
+// E1: sound is who isn't out, whatever else is said of it.
+func TestSound(t *testing.T) {
+	for _, k := range []struct {
+		l    []act.Servo
+		want int
+	}{
+		{nil, 0}, {[]act.Servo{{}}, 1}, {[]act.Servo{{Out: true}}, 0}, {[]act.Servo{{Bad: 2}, {Out: true}, {Is: 7}, {Bad: 3, Out: true}}, 2},
+	} {
+		if got := act.Sound(k.l); got != k.want {
+			t.Errorf("Sound(%v): %d", k.l, got)
+		}
+	}
+}

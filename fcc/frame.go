@@ -12,10 +12,10 @@ import (
 	"fulmar/word"
 )
 
-const (
-	speedBank = api.Axes
-	fullStick = 100
-)
+const speedBank = api.Axes
+
+// FullStick: what a stick says at its end; below 0 at the other one.
+const FullStick = 100
 
 // frame: the state, as it becomes step by step, of what craft, and by what is said.
 type frame struct {
@@ -67,7 +67,7 @@ func (f *frame) voteBank(i, label int, r vote.Rule) error {
 func (f *frame) watchServos() error {
 	for i, a := range f.craft.Axes {
 		for k, s := range f.Servos[i] {
-			next, err := act.Watch(actRule(a), s, f.says(unitLabel(SurfaceLabel, i, k), CommonSource))
+			next, err := act.Watch(actRule(a), s, f.says(UnitLabel(SurfaceLabel, i, k), CommonSource))
 			if err != nil {
 				return err
 			}
@@ -98,13 +98,11 @@ func (f *frame) chooseLaw() error {
 }
 
 func (f *frame) health(axis int) law.Health {
-	h := law.Health{Channels: vote.Left(f.Banks[axis]), Surfaces: f.craft.Axes[axis].Surfaces}
-	for _, s := range f.Servos[axis] {
-		if !s.Out {
-			h.Sound++
-		}
+	return law.Health{
+		Channels: vote.Left(f.Banks[axis]),
+		Sound:    act.Sound(f.Servos[axis]),
+		Surfaces: f.craft.Axes[axis].Surfaces,
 	}
-	return h
 }
 
 func (f *frame) moveAxes() error {
@@ -147,7 +145,7 @@ func (f *frame) moveAxis(i int) error {
 func (f *frame) ask(i int) hold.Ask {
 	most := guardRule(f.craft.Axes[i]).Most
 	return hold.Ask{
-		Stick: fix.Clip(f.says(StickLabel+i, CommonSource).Is, -fullStick, fullStick),
+		Stick: fix.Clip(f.says(StickLabel+i, CommonSource).Is, -FullStick, FullStick),
 		Is:    f.Banks[i].Last,
 		Speed: f.Banks[speedBank].Last,
 		Law:   f.Law,

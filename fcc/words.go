@@ -24,8 +24,8 @@ const (
 // CommonSource says and tells whatever is no channel's: a channel's source is its number.
 const CommonSource = api.Channels
 
-// unitLabel: the label of a surface, counted from the first one of axis 0.
-func unitLabel(first, axis, surface int) int { return first + api.MaxSurfaces*axis + surface }
+// UnitLabel: the label of a surface, counted from the first one of axis 0.
+func UnitLabel(first, axis, surface int) int { return first + api.MaxSurfaces*axis + surface }
 
 // says: what a label's source says; nothing, if its status isn't normal.
 func (f *frame) says(label, source int) api.Sample {
@@ -46,23 +46,13 @@ func (f *frame) channels(label int) [api.Channels]api.Sample {
 }
 
 // tell where the surfaces should be, and the law.
-func (f *frame) tell() ([]uint32, error) {
-	var told []uint32
-	for _, r := range f.readings() {
-		w, err := word.Pack(r)
-		if err != nil {
-			return nil, err
-		}
-		told = append(told, w)
-	}
-	return told, nil
-}
+func (f *frame) tell() ([]uint32, error) { return word.PackAll(f.readings()) }
 
 func (f *frame) readings() []api.Reading {
 	var l []api.Reading
 	for i, servos := range f.Servos {
 		for k, s := range servos {
-			l = append(l, api.Reading{Label: unitLabel(MoveLabel, i, k), Source: CommonSource, Status: status(s), Data: s.Is})
+			l = append(l, api.Reading{Label: UnitLabel(MoveLabel, i, k), Source: CommonSource, Status: status(s), Data: s.Is})
 		}
 	}
 	return append(l, api.Reading{Label: LawLabel, Source: CommonSource, Status: api.Normal, Data: f.Law})

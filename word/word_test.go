@@ -192,3 +192,35 @@ func TestAnyWord(t *testing.T) {
 		}
 	}
 }
+
+// C1: of any number the nearest one that a word can hold; that is what Check asks for.
+func TestHold(t *testing.T) {
+	for _, k := range []struct{ n, want int }{
+		{0, 0}, {-7, -7}, {262143, 262143}, {262144, 262143}, {-262144, -262144}, {-262145, -262144}, {math.MaxInt, 262143}, {math.MinInt, -262144},
+	} {
+		if got := word.Hold(k.n); got != k.want {
+			t.Errorf("Hold(%d): %d", k.n, got)
+		}
+		if err := word.Check(api.Reading{Data: k.n}); (err == nil) != (k.n == k.want) {
+			t.Errorf("Check of %d: %v", k.n, err)
+		}
+	}
+}
+
+// C1: readings are packed one by one, in their order; of one that may not be there is an error, and nothing else.
+func TestPackAll(t *testing.T) {
+	l := []api.Reading{{Label: 2, Status: 3, Data: 5}, {Label: 1, Status: 3, Data: -1}}
+	words, err := word.PackAll(l)
+	if err != nil || len(words) != 2 || words[1] != 0xfffffc80 {
+		t.Errorf("%x, %v", words, err)
+	}
+	if first, _ := word.Pack(l[0]); words[0] != first {
+		t.Errorf("%x, not %x", words[0], first)
+	}
+	if words, err := word.PackAll(nil); err != nil || len(words) != 0 {
+		t.Errorf("of none: %x, %v", words, err)
+	}
+	if words, err := word.PackAll(append(l, api.Reading{Label: 256})); err != api.ErrRange || len(words) != 0 {
+		t.Errorf("of a wrong one: %x, %v", words, err)
+	}
+}
